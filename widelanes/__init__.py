@@ -1,0 +1,1 @@
+"""Widelanes: many lanes, one row at once."""
