@@ -1,123 +1,12 @@
 """The package keeps to the part of Python that it may use: those rules that a walk over its files can see."""
 
-import ast
-import builtins
-import re
 import unittest
 from pathlib import Path
 
+from language_rules import faults_between, faults_of
+
 PACKAGE = Path(__file__).resolve().parent.parent / "widelanes"
 FILES = sorted(PACKAGE.rglob("*.py"))
-
-BANNED_NODES = (
-    ast.With, ast.Match, ast.Delete, ast.Global, ast.Nonlocal, ast.Assert, ast.Yield, ast.YieldFrom,
-    ast.AsyncFunctionDef, ast.AsyncFor, ast.AsyncWith, ast.Await, ast.SetComp, ast.DictComp,
-    ast.GeneratorExp, ast.NamedExpr, ast.Starred, ast.Div, ast.MatMult,
-)
-OWN_NAMES = set("""
-    len range enumerate zip min max sum abs sorted reversed int str bool list tuple dict set frozenset
-    isinstance ord repr any all divmod Exception ValueError TypeError KeyError IndexError LookupError
-    ZeroDivisionError ArithmeticError OverflowError RuntimeError NotImplementedError AttributeError StopIteration
-""".split())
-PYTHONS_OWN = {name for name in dir(builtins) if not name.startswith("_")}
-METHODS = set("__init__ __eq__ __repr__ __str__ __len__".split())
-WORDS = re.compile(
-    r"\b(type|typing|typing_extensions|enum|Enum|IntEnum|StrEnum|Flag|IntFlag|Generic|Protocol|ABC|ABCMeta"
-    r"|namedtuple|NamedTuple|TypedDict|TYPE_CHECKING|abstractmethod)\b|dataclass|overload|contextmanager"
-)
-
-
-def text_faults(source):
-    faults = []
-    lines = source.split("\n")
-    if len(lines) > 401:
-        faults.append("L10 a long file")
-    for line in lines:
-        if len(line) > 120:
-            faults.append("L10 a long line")
-        if not all(" " <= sign <= "~" for sign in line):
-            faults.append("L14 a sign")
-        if WORDS.search(line):
-            faults.append("L17 a word")
-    return faults
-
-
-def names_bound(tree):
-    # A method may be called like a name of Python's own, so methods are left out but for a leading underscore.
-    classes = [node for node in ast.walk(tree) if isinstance(node, ast.ClassDef)]
-    methods = [part for node in classes for part in node.body if isinstance(part, ast.FunctionDef)]
-    bound = [method.name for method in methods if method.name.startswith("_")]
-    for node in ast.walk(tree):
-        if isinstance(node, ast.Name) and isinstance(node.ctx, ast.Store):
-            bound.append(node.id)
-        elif isinstance(node, (ast.FunctionDef, ast.ClassDef)) and node not in methods:
-            bound.append(node.name)
-        elif isinstance(node, ast.arg):
-            bound.append(node.arg)
-        elif isinstance(node, ast.alias):
-            bound.append(node.asname or node.name)
-        elif isinstance(node, ast.ExceptHandler) and node.name:
-            bound.append(node.name)
-    return bound
-
-
-def node_faults(node):
-    if isinstance(node, BANNED_NODES):
-        return ["L6 L7 " + type(node).__name__]
-    if isinstance(node, ast.Import):
-        return ["L16 import"]
-    if isinstance(node, ast.ImportFrom):
-        own = node.level == 0 and (node.module or "").startswith("widelanes.")
-        return [] if own and node.names[0].name != "*" else ["L2 import"]
-    if isinstance(node, ast.Constant) and isinstance(node.value, (float, complex, bytes)):
-        return ["L7 a value"]
-    if isinstance(node, ast.Assign) and len(node.targets) != 1:
-        return ["L6 targets"]
-    if isinstance(node, (ast.For, ast.While)) and node.orelse:
-        return ["L6 else behind a loop"]
-    if isinstance(node, ast.Try) and node.finalbody:
-        return ["L6 finally"]
-    if isinstance(node, ast.ListComp) and (len(node.generators) > 1 or len(node.generators[0].ifs) > 1):
-        return ["L7 a comprehension"]
-    if isinstance(node, (ast.FunctionDef, ast.ClassDef)):
-        return def_faults(node)
-    if isinstance(node, ast.Compare) and any(isinstance(op, (ast.Is, ast.IsNot)) for op in node.ops):
-        side = node.comparators[0]
-        return [] if isinstance(side, ast.Constant) and side.value in (None, True, False) else ["L20 is"]
-    return []
-
-
-def def_faults(node):
-    faults = ["L4 L5 decorator"] if node.decorator_list else []
-    if isinstance(node, ast.ClassDef):
-        if len(node.bases) > 1 or node.keywords:
-            faults.append("L5 bases")
-        if any(isinstance(part, (ast.Assign, ast.AnnAssign)) for part in node.body):
-            faults.append("L5 a value in a class")
-    else:
-        if node.args.vararg or node.args.kwarg or node.args.kwonlyargs:
-            faults.append("L4 parameters")
-        if node.end_lineno - node.lineno + 1 > 40:
-            faults.append("L10 a long function")
-    return faults
-
-
-def name_faults(tree):
-    bound = names_bound(tree)
-    faults = ["L12 " + name for name in bound if name.startswith("_") and name not in METHODS]
-    faults.extend("L8 L15 " + name for name in bound if name in PYTHONS_OWN)
-    for node in ast.walk(tree):
-        if isinstance(node, ast.Name) and node.id in PYTHONS_OWN and node.id not in OWN_NAMES:
-            faults.append("L8 " + node.id)
-    return faults
-
-
-def faults_of(source):
-    tree = ast.parse(source)
-    faults = text_faults(source) + name_faults(tree)
-    for node in ast.walk(tree):
-        faults.extend(node_faults(node))
-    return faults
 
 
 class TestLanguage(unittest.TestCase):
@@ -137,8 +26,19 @@ class TestLanguage(unittest.TestCase):
             with self.subTest(file=path.name):
                 self.assertEqual(faults_of(path.read_text(encoding="utf-8")), [])
 
+    def test_the_files_together_keep_to_the_rules(self):
+        sources = {path.stem: path.read_text(encoding="utf-8") for path in FILES}
+        self.assertEqual(faults_between(sources), [])
+
+
+class TestTheWalk(unittest.TestCase):
+    def assert_found(self, sources):
+        for source in sources:
+            with self.subTest(source=source[:60]):
+                self.assertNotEqual(faults_of(source), [])
+
     def test_what_is_outside_the_rules_is_found(self):
-        for source in (
+        self.assert_found((
             "import os", "from .sums import wrapped", "from widelanes.sums import *", "x = 1.5", "x = 4 / 2",
             "x = y = 1", "def f(*many):\n    pass", "def f():\n    yield 1", "x = {k for k in (1, 2)}",
             "x = 1  # its type", "x = '\t'", "x = " + "1" * 120, "id = 3", "x = map", "hidden = _x = 1",
@@ -146,9 +46,62 @@ class TestLanguage(unittest.TestCase):
             "while 1:\n    pass\nelse:\n    pass", "with x:\n    pass", "assert 1", "\n" * 401,
             "x = [a for b in c for a in b]", "def f(list):\n    pass",
             "class A:\n    def _hidden(self):\n        pass", "def max(a):\n    return a",
+        ))
+
+    def test_defaults_that_are_no_plain_values_are_found(self):
+        for default in ("()", "[]", "{}", "(1, 2)", "[1]", "1.5", "b''", "X", "len('')", "1 + 1", "...", "-X", "not 1"):
+            self.assert_found((
+                f"def f(a, b={default}):\n    pass",
+                f"class A:\n    def __init__(self, a={default}, b=1):\n        pass",
+                f"def f():\n    def g(a={default}):\n        pass\n    return g",
+                f"def f():\n    return lambda a={default}: a",
+            ))
+
+    def test_plain_defaults_are_let(self):
+        for default in ("0", "7", "-1", "''", "'a'", "True", "False", "None"):
+            source = f"class A:\n    def __init__(self, a, b={default}):\n        self.b = b\n"
+            self.assertEqual(faults_of(source), [], default)
+            self.assertEqual(faults_of(f"def f(a={default}):\n    return a\n"), [], default)
+
+    def test_the_top_of_a_file_is_looked_at(self):
+        self.assert_found((
+            "if 1:\n    x = 1", "x = [[1]]", "x = {1: {}}", "x = 1\nx = 2", "x = len('a')", "f()",
+            "X = [1]\ndef f():\n    X.append(2)", "X = [1]\ndef f():\n    return X", "X = {1: 2}\ndef f():\n    X[3] = 4",
+            "from widelanes.sums import worked\ndef f(worked):\n    pass", "def f():\n    class A:\n        pass",
+        ))
+
+    def test_sets_and_walks_are_looked_at(self):
+        self.assert_found((
+            "def f(a):\n    b = set(a)", "def f(a):\n    for b in set(a):\n        pass", "def f(a):\n    return zip(a, a)",
+            "def f(a):\n    b = a.items()", "def f(a):\n    for b in a:\n        a.append(b)",
+            "def f(a):\n    for b in a.items():\n        a[b] = 1", "def f(a):\n    return len",
+            "def f(a):\n    return sorted(set(a), key=len)", "def f(a):\n    b = range(3)",
+        ))
+        self.assertEqual(faults_of("def f(a, b):\n    return len(set(a)) != len(set(b) | set(a)) or 1 in set(b)\n"), [])
+
+    def test_errors_and_texts_are_looked_at(self):
+        self.assert_found((
+            "def f():\n    try:\n        g()\n    except Exception:\n        pass",
+            "def f():\n    try:\n        g()\n    except:\n        pass",
+            "def f(e):\n    raise e", "x = 'a % b'", "x = '\\x41'", "def f(n):\n    return 2 ** n",
+            "def f(a):\n    return f'{a.b}'", "def f(a):\n    return f'{a:3}'", "def f(a):\n    a, b = a",
+            "def f(a):\n    a", "def f(a):\n    return list(x=a)", "def f(a):\n    return a.format()",
+            "class A:\n    def __init__(self):\n        return None",
+        ))
+
+    def test_what_lies_between_files_is_found(self):
+        one = "class A:\n    def ask(self):\n        pass\n"
+        other = "class B:\n    def __init__(self):\n        self.ask = 1\n"
+        self.assertEqual(faults_between({"one": one}), [])
+        self.assertNotEqual(faults_between({"one": one, "other": other}), [])
+        for sources in (
+            {"a": "from widelanes.b import x\ny = 1", "b": "from widelanes.a import y\nx = 1"},
+            {"a": "from widelanes.b import y", "b": "from widelanes.c import y", "c": "y = 1"},
+            {"a": "def f(x):\n    return x.title()"},
+            {"a": "class A:\n    def __init__(self):\n        self.values = 1"},
+            {"a": "class A:\n    def encode(self):\n        pass"},
         ):
-            with self.subTest(source=source[:40]):
-                self.assertNotEqual(faults_of(source), [])
+            self.assertNotEqual(faults_between(sources), [], sources)
 
 
 if __name__ == "__main__":

@@ -76,19 +76,13 @@ class TestOutcome(unittest.TestCase):
         for field in FIVE:
             self.assertEqual(getattr(made(values), field), [], field)
 
-    def test_letters_and_clash_are_enough_where_there_is_a_clash(self):
-        outcome = Outcome(handed()["letters"], CLASH)
+    def test_with_a_clash_empty_lists_may_be_handed_in(self):
+        outcome = Outcome(handed()["letters"], CLASH, [], [], [], [], [])
         self.assertEqual(outcome.letters, handed()["letters"])
         self.assertEqual(outcome.clash, CLASH)
         for field in FIVE:
             self.assertEqual(getattr(outcome, field), [], field)
             self.assertIs(type(getattr(outcome, field)), list, field)
-
-    def test_no_trace_handed_in_is_an_empty_one(self):
-        values = handed()
-        outcome = Outcome(*[values[field] for field in FIELDS[:-1]])
-        values["trace"] = []
-        self.assertEqual(fields_of(outcome), values)
 
     def test_no_letters_no_boxes(self):
         outcome = Outcome([], None, [("done", 2)], [[]], [0], [], [])
@@ -133,12 +127,13 @@ class TestOutcome(unittest.TestCase):
             found = lists_in(fields_of(outcome)) + [same]
             self.assertEqual(len({id(each) for each in found}), len(found))
 
-    def test_outcomes_of_letters_and_clash_share_nothing(self):
-        one, other = Outcome([], CLASH), Outcome([], CLASH)
+    def test_outcomes_with_a_clash_share_nothing(self):
+        empty = []
+        one, other = [Outcome(empty, CLASH, empty, empty, empty, empty, empty) for each in range(2)]
         fill(fields_of(one))
+        self.assertEqual(empty, [])
         for field in ("letters",) + FIVE:
             self.assertEqual(getattr(other, field), [], field)
-            self.assertEqual(getattr(Outcome([], CLASH), field), [], field)
 
     def test_giving_a_value_to_one_object_gives_it_to_no_other(self):
         one, other = made(handed()), made(handed())

@@ -2,7 +2,7 @@
 
 
 class Outcome:
-    def __init__(self, letters, clash, ends=(), told=(), steps=(), boxes=(), trace=()):
+    def __init__(self, letters, clash, ends, told, steps, boxes, trace):
         self.letters = copied_letters(letters)
         self.clash = clash
         self.ends = kept(clash, ends)
