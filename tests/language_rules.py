@@ -237,7 +237,8 @@ def loop_faults(node):
         return []
     walked = {ast.dump(node.iter)}
     if isinstance(node.iter, ast.Call):
-        walked |= {ast.dump(part) for part in node.iter.args} if not is_call_of(node.iter, {"list", "sorted"}) else set()
+        if not is_call_of(node.iter, {"list", "sorted"}):
+            walked |= {ast.dump(part) for part in node.iter.args}
         if is_method_call(node.iter, WALKED_METHODS):
             walked.add(ast.dump(node.iter.func.value))
     for part in ast.walk(node):

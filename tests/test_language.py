@@ -66,13 +66,15 @@ class TestTheWalk(unittest.TestCase):
     def test_the_top_of_a_file_is_looked_at(self):
         self.assert_found((
             "if 1:\n    x = 1", "x = [[1]]", "x = {1: {}}", "x = 1\nx = 2", "x = len('a')", "f()",
-            "X = [1]\ndef f():\n    X.append(2)", "X = [1]\ndef f():\n    return X", "X = {1: 2}\ndef f():\n    X[3] = 4",
+            "X = [1]\ndef f():\n    X.append(2)", "X = [1]\ndef f():\n    return X",
+            "X = {1: 2}\ndef f():\n    X[3] = 4",
             "from widelanes.sums import worked\ndef f(worked):\n    pass", "def f():\n    class A:\n        pass",
         ))
 
     def test_sets_and_walks_are_looked_at(self):
         self.assert_found((
-            "def f(a):\n    b = set(a)", "def f(a):\n    for b in set(a):\n        pass", "def f(a):\n    return zip(a, a)",
+            "def f(a):\n    b = set(a)", "def f(a):\n    for b in set(a):\n        pass",
+            "def f(a):\n    return zip(a, a)",
             "def f(a):\n    b = a.items()", "def f(a):\n    for b in a:\n        a.append(b)",
             "def f(a):\n    for b in a.items():\n        a[b] = 1", "def f(a):\n    return len",
             "def f(a):\n    return sorted(set(a), key=len)", "def f(a):\n    b = range(3)",
