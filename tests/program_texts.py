@@ -7,6 +7,14 @@ JOINTS = ("sum", "most", "least", "ahead")
 NAMES = ("a", "b", "c", "x", "y", "count")
 
 
+def texts(*lines):
+    return "\n".join(lines)
+
+
+def main(*lines):
+    return texts("def main", *lines, "end")
+
+
 class Writer:
     """Writes a program's text that is read without a refusal, whatever the seed."""
 

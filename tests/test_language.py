@@ -12,8 +12,9 @@ FILES = sorted(PACKAGE.rglob("*.py"))
 class TestLanguage(unittest.TestCase):
     def test_the_package_is_there(self):
         names = [path.name for path in FILES]
-        for name in ("__init__.py", "errors.py", "outcome.py", "sums.py"):
-            self.assertIn(name, names)
+        modules = ("__init__", "errors", "outcome", "sums", "words", "lines", "texts", "marks", "rows", "ways", "could")
+        for module in modules:
+            self.assertIn(module + ".py", names)
 
     def test_nothing_but_plainly_named_files_lies_in_the_package(self):
         for path in PACKAGE.rglob("*"):

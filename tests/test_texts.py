@@ -3,7 +3,7 @@
 import copy
 import unittest
 
-from program_texts import broad_text, program_text
+from program_texts import broad_text, main, program_text, texts
 
 from widelanes.errors import LaneError, NoLine, NoName, NoNest, TooMuch
 from widelanes.texts import read, shown
@@ -14,14 +14,6 @@ sum most least ahead""".split()
 X, Y, ONE, TWO = ("name", "x"), ("name", "y"), ("num", 1), ("num", 2)
 DEEPEST = "box " * 6 + "x"
 TOO_DEEP = "box " * 7 + "x"
-
-
-def main(*lines):
-    return "\n".join(("def main",) + lines + ("end",))
-
-
-def texts(*lines):
-    return "\n".join(lines)
 
 
 class TextsCase(unittest.TestCase):

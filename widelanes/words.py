@@ -95,3 +95,13 @@ def shown_expression(expression):
     if kind == "name":
         return expression[1]
     return " ".join([kind] + [shown_expression(part) for part in expression[1:]])
+
+
+def leaves_of(expression):
+    # The parts that have no parts themselves, from left to right.
+    if expression[0] != "box" and expression[0] not in WORKINGS:
+        return [expression]
+    found = []
+    for part in expression[1:]:
+        found.extend(leaves_of(part))
+    return found
