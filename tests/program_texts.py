@@ -106,6 +106,134 @@ def program_text(seed, own=0.3, most_lines=60, kinds=None):
     return Writer(seed, own, most_lines, kinds).text()
 
 
+class LetWriter:
+    """Writes the text of a program that is let, whatever the seed.
+
+    The names s, t and u are given the same numbers by all lanes, the names a, b and c are each lane's own. An own way
+    is one that lanes may take unlike: in it there is no meeting. Lanes put to box `lane` alone and read the boxes from
+    8 on, which nobody puts to; with a chance of wild they touch any box. So a calm program (wild 0) never clashes.
+    """
+
+    ALIKE, OWN = ("s", "t", "u"), ("a", "b", "c")
+
+    def __init__(self, seed, wild=0.0, most_lines=60):
+        self.source = random.Random(seed)
+        self.wild = wild
+        self.left = most_lines
+        self.lines = []
+        # Of each def but main: are its ways own, and the names of its parameters.
+        self.defs = {}
+
+    def pick(self, things):
+        return self.source.choice(things)
+
+    def chance(self, share):
+        return self.source.random() < share
+
+    def alike(self, deep):
+        if deep == 0 or self.chance(0.4):
+            return self.pick(self.ALIKE + ("lanes", "0", "1", "2", "3", "-4"))
+        if self.chance(0.2):
+            return f"box + 8 rem {self.alike(deep - 1)} 4"
+        return f"{self.pick(WORKINGS[:3] + WORKINGS[5:])} {self.alike(deep - 1)} {self.alike(deep - 1)}"
+
+    def own(self, deep):
+        if deep == 0 or self.chance(0.4):
+            return self.pick(self.OWN + ("lane", "lane", "mine", "mine", "lanes", "1", "5"))
+        if self.chance(0.3):
+            if self.chance(self.wild):
+                return self.pick(("box 1", "box rem + lane 1 lanes", "box mine", "box rem a lanes"))
+            return self.pick(("box lane", "box + 8 rem lane 3", "box + 8 rem mine 5"))
+        word = self.pick(WORKINGS if self.chance(0.1) else WORKINGS[:3] + WORKINGS[5:])
+        return f"{word} {self.own(deep - 1)} {self.own(deep - 1)}"
+
+    def add(self, *lines):
+        self.lines.extend(lines)
+        self.left -= len(lines)
+
+    def statement(self, own, loop, nest, name):
+        kinds = ["set", "set", "put", "tell", "tell", "if", "if", "if", "while", "call"]
+        kinds += ["own set"] if own else ["alike set", "join", "join", "meet", "exchange"]
+        kinds += ["break", "again"] if loop is not None and (loop or not own) else []
+        kinds += ["return"] if name != "main" and (not own or self.defs[name][0]) else []
+        kinds += ["stop"] if self.chance(0.2) else []
+        kind = self.pick(kinds)
+        if kind in ("if", "while"):
+            if nest < 5 and self.left > 8:
+                self.block(kind, own, loop, nest, name)
+        elif kind == "call":
+            self.call(own)
+        else:
+            self.add(*self.simple(kind))
+
+    def simple(self, kind):
+        if kind in ("set", "own set"):
+            return [f"set {self.pick(self.OWN)} {self.own(2)}"]
+        if kind == "alike set":
+            return [f"set {self.pick(self.ALIKE)} {self.alike(2)}"]
+        if kind == "put":
+            place = self.pick(("0", "mine", "rem + lane 1 lanes", "+ lane 1")) if self.chance(self.wild) else "lane"
+            return [f"put {place} {self.own(2)}"]
+        if kind in ("tell", "return"):
+            return [f"{kind} {self.own(2)}"]
+        if kind == "join":
+            word = self.pick(JOINTS)
+            return [f"join {self.pick(self.OWN if word == 'ahead' else self.ALIKE)} {word} {self.own(2)}"]
+        if kind == "exchange":
+            return [f"put lane {self.own(1)}", "meet", f"set {self.pick(self.OWN)} box rem + lane 1 lanes", "meet"]
+        return [kind]
+
+    def call(self, own):
+        names = [name for name in sorted(self.defs) if self.defs[name][0] or not own]
+        if names:
+            name = self.pick(names)
+            parts = [self.alike(1) if param in self.ALIKE else self.own(1) for param in self.defs[name][1]]
+            self.add(" ".join(["call", self.pick(self.OWN), name] + parts))
+
+    def block(self, kind, own, loop, nest, name):
+        inner = own or self.chance(0.7)
+        expression = self.own(1) if inner else self.alike(1)
+        if kind == "while":
+            count = self.pick(self.OWN if inner else self.ALIKE)
+            self.add(f"set {count} rem {expression} 4", f"while {count}")
+            if self.chance(0.8):
+                self.add(f"set {count} - {count} 1")
+            self.body(inner, inner, nest + 1, name)
+        else:
+            self.add(f"if {expression}")
+            self.body(inner, loop, nest + 1, name)
+            if self.chance(0.5):
+                self.add("else")
+                self.body(inner, loop, nest + 1, name)
+        self.add("end")
+
+    def body(self, own, loop, nest, name):
+        for each in range(self.pick((0, 1, 2, 3, 4))):
+            if self.left > 10:
+                self.statement(own, loop, nest, name)
+
+    def text(self):
+        self.defs = {
+            "f": (True, self.source.sample(self.OWN, self.source.randrange(4))),
+            "g": (True, self.source.sample(self.OWN, self.source.randrange(4))),
+            "h": (False, self.source.sample(self.ALIKE + self.OWN, self.source.randrange(7))),
+        }
+        names = ["main"] + self.source.sample(sorted(self.defs), self.source.randrange(4))
+        self.defs = {name: self.defs[name] for name in names if name != "main"}
+        self.source.shuffle(names)
+        for name in names:
+            own, params = self.defs.get(name, (False, []))
+            self.add(" ".join(["def", name] + params))
+            for each in range(4 if name == "main" else 1):
+                self.body(own, None, 0, name)
+            self.add("end")
+        return "\n".join(self.lines)
+
+
+def let_text(seed, wild=0.0, most_lines=60):
+    return LetWriter(seed, wild, most_lines).text()
+
+
 def broad_text(lines, signs):
     """A text of so many lines, and of about so many signs, in which each line is as broad as it may be."""
     inner = (lines - 2) * [None]

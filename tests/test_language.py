@@ -12,7 +12,8 @@ FILES = sorted(PACKAGE.rglob("*.py"))
 class TestLanguage(unittest.TestCase):
     def test_the_package_is_there(self):
         names = [path.name for path in FILES]
-        modules = ("__init__", "errors", "outcome", "sums", "words", "lines", "texts", "marks", "rows", "ways", "could")
+        modules = ("__init__", "errors", "outcome", "sums", "words", "lines", "texts", "marks", "rows", "ways", "could",
+                   "joints", "alone", "together", "shared")
         for module in modules:
             self.assertIn(module + ".py", names)
 
