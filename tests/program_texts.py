@@ -221,9 +221,14 @@ class LetWriter:
         names = ["main"] + self.source.sample(sorted(self.defs), self.source.randrange(4))
         self.defs = {name: self.defs[name] for name in names if name != "main"}
         self.source.shuffle(names)
+        # The others have a third of the lines, lest main be left without.
+        most, others = self.left, self.left // 3
         for name in names:
             own, params = self.defs.get(name, (False, []))
+            self.left = most - others if name == "main" else others // (len(names) - 1)
             self.add(" ".join(["def", name] + params))
+            if name == "main" and self.chance(0.8):
+                self.add("set a + lane mine", "set b rem mine 3", "set c < lane 2", "set s 2")
             for each in range(4 if name == "main" else 1):
                 self.body(own, None, 0, name)
             self.add("end")

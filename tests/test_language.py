@@ -13,7 +13,7 @@ class TestLanguage(unittest.TestCase):
     def test_the_package_is_there(self):
         names = [path.name for path in FILES]
         modules = ("__init__", "errors", "outcome", "sums", "words", "lines", "texts", "marks", "rows", "ways", "could",
-                   "joints", "alone", "together", "shared")
+                   "joints", "alone", "together", "shared", "machine", "desk")
         for module in modules:
             self.assertIn(module + ".py", names)
 

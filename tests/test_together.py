@@ -4,58 +4,30 @@ import copy
 import random
 import unittest
 
-from alone_cases import are_unlike, fields_of, lists_in, spoil
+from alone_cases import fields_of, spoil
+from outcome_cases import OutcomeCase
 from program_texts import let_text, main, program_text, texts
-from second_lane import LEAST, MOST, OUTCOME_FIELDS, all_clashes, second_together
+from second_lane import LEAST, MOST, OUTCOME_FIELDS, second_together
 
-from widelanes.alone import alone
-from widelanes.errors import LaneError, NoHead, NoLine, NoName, NoNest, TooMuch, Waits
 from widelanes.marks import is_let
 from widelanes.texts import read
 from widelanes.together import together
 
-FIVE = OUTCOME_FIELDS[2:]
 
-
-class TogetherCase(unittest.TestCase):
-    def assert_kinds(self, outcome):
-        for name in ("letters",) + FIVE:
-            self.assertIs(type(getattr(outcome, name)), list, name)
-        for letter in outcome.letters:
-            self.assertEqual([type(part) for part in letter], [int, list, list])
-        for each in outcome.letters + outcome.ends:
-            self.assertIs(type(each), tuple)
-        if outcome.clash is not None:
-            self.assertIs(type(outcome.clash), tuple)
-            self.assertEqual([type(part) for part in outcome.clash], [int] * 5)
-        numbers = outcome.steps + outcome.boxes + [n for told in outcome.told for n in told]
-        numbers += [n for letter in outcome.letters for n in letter[1] + letter[2] if n is not None]
-        self.assertTrue(all(type(n) is int and LEAST <= n <= MOST for n in numbers))
-
+class TogetherCase(OutcomeCase):
     def assert_sound(self, program, mines, boxes, most):
-        handed = (program, mines, boxes, most)
-        before = copy.deepcopy(handed)
-        outcome = together(*handed)
-        self.assertEqual(handed, before)
-        self.assert_kinds(outcome)
-        told = fields_of(outcome, OUTCOME_FIELDS)
-        self.assertTrue(are_unlike(lists_in(told)))
-        self.assertFalse({id(each) for each in lists_in(told)} & {id(each) for each in lists_in(handed)})
-        self.assertEqual(told, second_together(*copy.deepcopy(handed)))
+        outcome = self.asked(together, program, mines, boxes, most)
+        self.assert_fields(outcome, second_together(program, mines, boxes, most))
         return outcome
 
     def outcome(self, text, mines=(0, 0), boxes=(), most=1000):
         return self.assert_sound(read(text), list(mines), list(boxes), most)
 
     def assert_outcome(self, text, meant, **handed):
-        self.assertEqual(fields_of(self.outcome(text, **handed), meant), meant, text)
+        self.assert_fields(self.outcome(text, **handed), meant)
 
     def assert_clash(self, text, clash, letters=(), **handed):
-        outcome = self.outcome(text, **handed)
-        self.assertEqual(outcome.clash, clash, text)
-        self.assertEqual(outcome.letters, list(letters))
-        for name in FIVE:
-            self.assertEqual(getattr(outcome, name), [], name)
+        self.assert_clashed(self.outcome(text, **handed), clash, letters)
 
 
 class TestOutcomes(TogetherCase):
@@ -246,16 +218,8 @@ class TestRefusals(TogetherCase):
                      texts("def main", "if lane", "call x f", "end", "end", "def f", "meet", "end"),
                      main("stop", "if lane", "meet", "end"),
                      texts("def main", "end", "def f", "if mine", "meet", "end", "end")):
-            program = read(text)
-            before = copy.deepcopy(program)
             for mines in ([1], [0, 0], [0] * 8):
-                with self.assertRaises(Waits) as caught:
-                    together(program, mines, [0], 100)
-                self.assertIsInstance(caught.exception, LaneError)
-                self.assertIsInstance(caught.exception, ValueError)
-                for other in (TooMuch, NoLine, NoNest, NoName, NoHead):
-                    self.assertNotIsInstance(caught.exception, other)
-            self.assertEqual(program, before)
+                self.assert_refused(together, read(text), mines, [0], 100)
 
 
 class TestTheAskersOwn(TogetherCase):
@@ -272,41 +236,15 @@ class TestTheAskersOwn(TogetherCase):
 
 
 class TestTogetherAndAlone(TogetherCase):
-    def assert_alone(self, program, mines, boxes, most):
-        """Each lane alone, given the letters of together, comes to the same; what they put is in the boxes."""
-        outcome = self.assert_sound(program, mines, boxes, most)
-        lanes = len(mines)
-        stories = [alone(program, lane, lanes, mine, boxes, most, outcome.letters) for lane, mine in enumerate(mines)]
-        held = [(n - LEAST) % 4294967296 + LEAST for n in boxes]
-        for phase, letter in enumerate(outcome.letters):
-            there = {lane: story for lane, story in enumerate(stories) if len(story.touches) > phase}
-            self.assertEqual(all_clashes({lane: story.touches[phase] for lane, story in there.items()}), set())
-            self.lay(held, there, phase)
-            self.assertEqual(letter[2], held)
-            brought = [there[lane].brought[phase:phase + 1] if lane in there else [] for lane in range(lanes)]
-            self.assertEqual([[] if n is None else [(letter[0], n)] for n in letter[1]], brought)
-        last = len(outcome.letters)
-        there = {lane: story for lane, story in enumerate(stories) if len(story.touches) > last}
-        found = all_clashes({lane: story.touches[last] for lane, story in there.items()})
-        self.assertEqual(outcome.clash, min(found, default=None))
-        if not found:
-            self.lay(held, there, last)
-            self.assertEqual(outcome.boxes, held)
-            self.assertEqual(outcome.ends, [story.end for story in stories])
-            self.assertEqual(outcome.steps, [story.steps for story in stories])
-            self.assertEqual(outcome.told, [story.told for story in stories])
-        return outcome
-
-    def lay(self, held, there, phase):
-        for story in there.values():
-            for place, number in story.puts[phase].items():
-                held[place] = number
-
     def assert_seed(self, seed, program):
         source = random.Random(seed)
         mines = [source.choice((0, 1, 2, 3, -4, 7, 2 ** 40 + 1)) for each in range(source.randrange(1, 9))]
         boxes = [source.choice((0, 1, 2, -1, 2 ** 40 + 3)) for each in range(source.choice((0, 4, 12, 16, 32)))]
-        return self.assert_alone(program, mines, boxes, source.choice((10, 60, 300, 1000)))
+        most = source.choice((10, 60, 300, 1000))
+        outcome = self.assert_sound(program, mines, boxes, most)
+        found = self.assert_alone(outcome, program, mines, boxes, most)
+        self.assertEqual(outcome.clash, min(found, default=None))
+        return outcome
 
     def test_calm_programs(self):
         for seed in range(300):

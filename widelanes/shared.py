@@ -9,6 +9,9 @@ class Shared:
         # reading and the first putting serve: a later one never is the earliest that clashes.
         self.touches = {}
 
+    def has_box(self, place):
+        return 0 <= place < len(self.boxes)
+
     def taken(self, lane, place, line):
         self.touch("get", lane, place, line)
         return self.boxes[place]
